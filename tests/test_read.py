@@ -120,6 +120,10 @@ class Faults(unittest.TestCase):
         for byte in (47, 58, 0, 9, 13, 255):
             found = run((READ, text("grid 3 2 2 10 10 ") + [byte]))
             self.assertEqual(found, [[0, 3, 1, 7]])
+            # Taken for digits, some of these would tell a number within the range.
+            for word in ([49, byte], [byte, 49], [49, byte, 49]):
+                found = run((READ, text("grid 3 2 2 ") + word + text(" 10 1")))
+                self.assertEqual(found, [[0, 3, 1, 5]], word)
 
     def test_kind_6_an_end_before_its_beginning(self):
         for name, shift in (("set 0", 0), ("phase 0", 0), ("dug", -1)):
