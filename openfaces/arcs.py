@@ -1,6 +1,7 @@
 """Arcs: which blocks must have gone from above a block so that its walls stand."""
 
 from openfaces.ground import block_at
+from openfaces.ground import places_of
 
 
 def has_arc(mine, number, k, east, north):
@@ -42,13 +43,13 @@ def span_of_row(mine, number, k, north):
 
 def find_cone(mine, block):
     """The blocks to which arcs lead from this one, rising."""
-    x = block % mine.nx
-    y = block // mine.nx % mine.ny
-    z = block // (mine.nx * mine.ny)
+    places = places_of(mine, block)
+    x = places[0]
+    z = places[2]
     found = []
     for level in range(max(0, z - mine.reach), z):
         for row in range(mine.ny):
-            span = span_of_row(mine, mine.sets[block], z - level, row - y)
+            span = span_of_row(mine, mine.sets[block], z - level, row - places[1])
             first = block_at(mine, max(0, x - span[0]), row, level)
             last = block_at(mine, min(mine.nx - 1, x + span[1]), row, level)
             found.extend(list(range(first, last + 1)))

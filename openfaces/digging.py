@@ -33,9 +33,9 @@ def undo_block(mine):
     return block
 
 
-def faces(mine):
-    """All blocks that are open now, rising."""
-    return [block for block in range(mine.total) if hindrance(mine, block, mine.dug) == 0]
+def faces(mine, gone):
+    """All blocks that are open when these are gone (1 or 0 for each block), rising."""
+    return [block for block in range(mine.total) if hindrance(mine, block, gone) == 0]
 
 
 def check_order(mine, blocks):

@@ -31,6 +31,11 @@ def block_at(mine, x, y, z):
     return (z * mine.ny + y) * mine.nx + x
 
 
+def places_of(mine, block):
+    """The places x, y and z of a block."""
+    return [block % mine.nx, block // mine.nx % mine.ny, block // (mine.nx * mine.ny)]
+
+
 def blocks_within(mine, box):
     """The numbers of the blocks from X1 to X2, Y1 to Y2, Z1 to Z2; box: these six."""
     found = []

@@ -36,3 +36,12 @@ def blocks_after(mine, block):
         if any([above in needing for above in cone(mine, later)]):
             needing[later] = True
     return [later for later in needing if later != block]
+
+
+def closure(mine, blocks):
+    """The least blocks, rising, that hold all of these that aren't dug and lack none."""
+    wanted = needed(mine, blocks)
+    for block in blocks:
+        wanted[block] = True
+    # All that a dug block needs is dug too, so it's enough to leave out the dug ones at the end.
+    return [block for block in sorted(wanted) if mine.dug[block] == 0]

@@ -1,11 +1,12 @@
 """What the tests share: calls as tuples, texts as lines, and a second, slow account of what a mine must answer."""
 
 from fractions import Fraction
-from itertools import product
+from itertools import combinations, permutations, product
 
 from openfaces.mine import answers
 
 READ, LOOK, WRITE, DIG, UNDO, CONE, BEFORE, DIRECT, AFTER, OPEN, ORDER, LACKS = range(12)
+CLOSURE, OUTLINE, EARLY, PULLED, ROUNDS, CHAIN, PLAN, ORDERS, LEVEL, NARROW, BLOCK, GRID = range(12, 24)
 FAR = 1000000000000000000
 
 
@@ -67,6 +68,7 @@ class Account:
         self.sets = sets
         self.phases = phases
         self.dug = set(dug)
+        self.since = []
         self.total = self.nx * self.ny * self.nz
         self.cones = [[a for a in range(self.total) if self.arc(b, a)] for b in range(self.total)]
         self.befores = []
@@ -131,6 +133,107 @@ class Account:
                 return [0, 0, block, min(lacking)]
         return [0, 1]
 
+    def closure(self, blocks):
+        held = {b for b in blocks if b not in self.dug}
+        while True:
+            lacking = {a for b in held for a in self.cones[b] if a not in self.dug and a not in held}
+            if not lacking:
+                return sorted(held)
+            held |= lacking
+
+    def outline(self):
+        return self.lacks([b for b in range(self.total) if self.phases[b]])
+
+    def early(self):
+        left = [b for b in range(self.total) if b not in self.dug]
+        for b in left:
+            late = [a for a in left if a in self.cones[b] and (self.phases[a] == 0 or self.phases[a] > self.phases[b])]
+            if self.phases[b] and late:
+                return [0, 0, b, min(late)]
+        return [0, 1]
+
+    def pulled(self):
+        found = []
+        for b in range(self.total):
+            phases = [self.phases[c] for c in self.after(b) if self.phases[c]]
+            if self.phases[b] and phases and self.phases[b] > min(phases):
+                found += [b, min(phases)]
+        return found
+
+    def rounds(self):
+        gone = set(self.dug)
+        found = [0 if b in gone else -1 for b in range(self.total)]
+        number = 0
+        while True:
+            number += 1
+            ready = [b for b in range(self.total) if self.why(b, gone) == 0]
+            if not ready:
+                return found
+            for b in ready:
+                found[b] = number
+            gone |= set(ready)
+
+    def chain(self, b):
+        rounds = self.rounds()
+        if rounds[b] < 1:
+            return [0] if rounds[b] == 0 else [-8]
+        found = [b]
+        while rounds[found[-1]] > 1:
+            found.append(min(a for a in self.cones[found[-1]] if rounds[a] == rounds[found[-1]] - 1))
+        return [0] + found
+
+    def plan(self):
+        gone = set(self.dug)
+        found = []
+        while True:
+            ready = sorted((self.phases[b], b) for b in range(self.total) if self.why(b, gone) == 0)
+            if not ready:
+                return found
+            found.append(ready[0][1])
+            gone.add(ready[0][1])
+
+    def orders(self, blocks):
+        return sum(self.order(list(order)) == [0, 1] for order in permutations(blocks))
+
+    def on_level(self, z):
+        return [b for b in range(self.total) if self.places(b)[2] == z]
+
+    def level(self, z):
+        if z >= self.nz:
+            return [-9]
+        here = self.on_level(z)
+        walls = 0
+        for b, c in combinations(here, 2):
+            apart = sum(abs(i - j) for i, j in zip(self.places(b), self.places(c)))
+            walls += apart == 1 and (b in self.dug) != (c in self.dug)
+        return [0, len(self.dug & set(here)), walls, len(set(self.faces()) & set(here))]
+
+    def narrow(self, z, w):
+        if z >= self.nz:
+            return [-9]
+        floor = {self.places(b)[:2]: b for b in self.on_level(z) if b in self.dug or self.phases[b]}
+        found = [0]
+        for x, y in floor:
+            corners = product(range(x - w + 1, x + 1), range(y - w + 1, y + 1))
+            squares = [[(i + left, j + low) for i in range(w) for j in range(w)] for left, low in corners]
+            if not any(all(place in floor for place in square) for square in squares):
+                found.append(floor[x, y])
+        return found
+
+    def block(self, b):
+        return [0, *self.places(b), self.sets[b], self.phases[b], int(b in self.dug), int(b in self.faces())]
+
+    def grid(self):
+        since = len(self.since)
+        return [0, *self.sizes, len(self.dug) - since, since, len([phase for phase in self.phases if phase])]
+
+    def dig(self, b):
+        self.since.append(b)
+        self.dug.add(b)
+
+    def undo(self):
+        self.dug.remove(self.since.pop())
+
     def lines(self):
         """The mine as text, found by looking at each block's neighbours."""
         found = ["grid " + " ".join(map(str, self.sizes))]
@@ -188,3 +291,28 @@ def some_mine(dice):
             account.dug |= account.befores[block] | {block}
     lines += account.runs("dug", [int(b in account.dug) for b in range(account.total)])
     return lines, account
+
+
+def some_steps(dice, account, size):
+    """Digs and undos of the dice's choice that aren't refused, done in the account too."""
+    calls = []
+    for step in range(size):
+        faces = account.faces()
+        if account.since and (not faces or dice.random() < 0.25):
+            account.undo()
+            calls.append((UNDO,))
+        elif faces:
+            account.dig(dice.choice(faces))
+            calls.append((DIG, account.since[-1]))
+    return calls
+
+
+def some_worked_mine(dice):
+    """As some_mine, but mostly with more to be dug; the calls that dig some since the text; the account behind them."""
+    while True:
+        lines, account = some_mine(dice)
+        choices = dice.choice([[0], [1], [2], [1, 2, 3], [0, 1, 2, 3]])
+        account.phases = [phase or dice.choice(choices) for phase in account.phases]
+        lines = account.lines()
+        if len(text(*lines)) <= 3000:
+            return lines, some_steps(dice, account, dice.randint(0, 40)), account

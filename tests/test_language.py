@@ -21,6 +21,7 @@ METHODS = """append clear copy count endswith extend find get index insert isaln
     setdefault split splitlines startswith strip update upper values zfill bit_length""".split()
 WORDS = """type typing typing_extensions enum Enum IntEnum StrEnum Flag IntFlag Generic Protocol ABC ABCMeta namedtuple
     NamedTuple TypedDict TYPE_CHECKING abstractmethod""".split()
+WALKERS = "list tuple dict sorted sum any all enumerate zip min max".split()
 NEVER = "register mro elements open input version_info with_traceback add_note format format_map".split()
 
 
@@ -86,6 +87,39 @@ class Language(unittest.TestCase):
                     self.assertEqual((node.vararg, node.kwarg, node.kwonlyargs, node.posonlyargs), (None, None, [], []))
                 if isinstance(node, ast.Compare) and isinstance(node.ops[0], (ast.Is, ast.IsNot)):
                     self.assertIsInstance(node.comparators[0], ast.Constant, where)
+
+    def test_walked_at_once(self):
+        for path in FILES:
+            walked = [node.iter for node in nodes_of(path, ast.For, ast.comprehension)]
+            for node in nodes_of(path, ast.Call):
+                if isinstance(node.func, ast.Name) and node.func.id in WALKERS:
+                    walked += node.args if node.func.id == "zip" else node.args[:1]
+            for node in nodes_of(path, ast.Call):
+                name = getattr(node.func, "id", getattr(node.func, "attr", ""))
+                if name in ("zip", "enumerate", "reversed", "range", "items", "keys", "values"):
+                    same = [ast.dump(other, include_attributes=True) for other in walked]
+                    self.assertIn(ast.dump(node, include_attributes=True), same, (path.name, node.lineno))
+
+    def test_sets_stand_where_they_are_asked(self):
+        for path in FILES:
+            inner = [node.args[0] for node in nodes_of(path, ast.Call)
+                     if getattr(node.func, "id", "") in ("len", "sorted") and node.args]
+            for node in nodes_of(path, ast.Compare):
+                inner += [node.left] + node.comparators
+            allowed = [ast.dump(node, include_attributes=True) for node in inner]
+            for node in nodes_of(path, ast.Call, ast.Set):
+                if isinstance(node, ast.Set) or getattr(node.func, "id", "") in ("set", "frozenset"):
+                    self.assertIn(ast.dump(node, include_attributes=True), allowed, (path.name, node.lineno))
+
+    def test_tops_of_files(self):
+        for path in FILES:
+            for node in ast.parse(path.read_text()).body:
+                where = (path.name, node.lineno)
+                kinds = (ast.Expr, ast.ImportFrom, ast.FunctionDef, ast.ClassDef, ast.Assign)
+                self.assertIsInstance(node, kinds, where)
+                if isinstance(node, ast.Assign):
+                    inner = [other for value in ast.iter_child_nodes(node.value) for other in ast.walk(value)]
+                    self.assertEqual([other for other in inner if isinstance(other, (ast.List, ast.Dict))], [], where)
 
     def test_names(self):
         for path in FILES:

@@ -3,7 +3,8 @@
 import unittest
 from random import Random
 
-from tests.helper import CONE, DIG, OPEN, READ, UNDO, WRITE, ask, run, some_mine, text, told
+from tests.helper import (BLOCK, CONE, DIG, EARLY, GRID, LEVEL, NARROW, OPEN, OUTLINE, PLAN, PULLED, READ, ROUNDS, UNDO,
+                          WRITE, ask, run, some_mine, some_worked_mine, text, told)
 
 PLAIN = ["slope 0 1 1 1 1 1 1 1 1", "slope 1 1 1 1 1 1 1 1 1", "slope 2 1 1 1 1 1 1 1 1", "slope 3 1 1 1 1 1 1 1 1"]
 
@@ -68,6 +69,25 @@ class Promise5(unittest.TestCase):
                 phases = account.total - account.phases.count(0)
                 self.assertEqual(again, [[0, 0, account.total, phases]] + found)
         self.assertGreater(read_again, 60)
+
+    def test_all_that_is_told_of_it_is_the_same(self):
+        dice = Random(55)
+        queries = [(WRITE,), (OPEN,), (OUTLINE,), (EARLY,), (PULLED,), (ROUNDS,), (PLAN,)]
+        queries += [(LEVEL, z) for z in range(5)] + [(NARROW, z, w) for z in range(5) for w in (1, 2, 3)]
+        dug_since = 0
+        for count in range(60):
+            lines, calls, account = some_worked_mine(dice)
+            blocks = [(BLOCK, block) for block in range(account.total)]
+            found = ask(lines, *calls, *queries, *blocks)[len(calls):]
+            written = found[0][1:]
+            if len(written) <= 3000:
+                again = run((READ, written), *queries, *blocks, (GRID,), (UNDO,))
+                self.assertEqual(again[1:-2], found)
+                # Only when they were dug is told otherwise: all by the text, none since.
+                grid = account.grid()
+                self.assertEqual(again[-2:], [grid[:7] + [len(account.dug), 0, grid[9]], [-6]])
+                dug_since += len(account.since) > 0
+        self.assertGreater(dug_since, 20)
 
     def test_a_text_that_is_written_longer_than_3000_is_written_whole(self):
         lines = ["grid 6 6 5 1 1 1", "phase 1 0 5 0 5 0 4"]
